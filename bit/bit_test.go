@@ -21,15 +21,6 @@ func of(text string) api.Bits {
 	return api.Bits{B: b, N: len(text)}
 }
 
-// text is the opposite of of.
-func text(x api.Bits) string {
-	t := make([]byte, x.N)
-	for i := range t {
-		t[i] = '0' + x.B[i/8]>>(7-i%8)&1
-	}
-	return string(t)
-}
-
 func number(v uint64, width int) string {
 	t := make([]byte, width)
 	for i := range t {
@@ -107,7 +98,7 @@ func TestPutAndGetAtEveryShift(t *testing.T) {
 		for width := 0; width <= 64; width++ {
 			ahead, v := random(r, start), r.Uint64()
 			x, e := bit.Put(of(ahead), v, width)
-			if e != api.OK || !bit.Sound(x) || text(x) != ahead+number(v, width) {
+			if e != api.OK || !bit.Sound(x) || !same(x, of(ahead+number(v, width))) {
 				t.Fatalf("Put of %d bits behind %d: %v %v", width, start, x, e)
 			}
 			behind, _ := bit.Put(x, r.Uint64(), r.Intn(20))
@@ -178,7 +169,7 @@ func TestCutEverywhere(t *testing.T) {
 		for from := 0; from <= n; from++ {
 			for to := from; to <= n; to++ {
 				x, e := bit.Cut(of(whole), from, to)
-				if e != api.OK || !bit.Sound(x) || text(x) != whole[from:to] {
+				if e != api.OK || !bit.Sound(x) || !same(x, of(whole[from:to])) {
 					t.Fatalf("Cut of %s from %d to %d: %v %v", whole, from, to, x, e)
 				}
 			}
@@ -211,7 +202,7 @@ func TestJoinOfParts(t *testing.T) {
 			l = append(l, of(part))
 		}
 		x, e := bit.Join(l...)
-		if e != api.OK || !bit.Sound(x) || text(x) != whole {
+		if e != api.OK || !bit.Sound(x) || !same(x, of(whole)) {
 			t.Fatalf("Join of %v: %v %v", l, x, e)
 		}
 		a := r.Intn(len(whole) + 1)

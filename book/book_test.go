@@ -110,11 +110,11 @@ func TestNone(t *testing.T) {
 			if f, to, e := b.Cut(7, p, 100); e != api.ErrBookPlace || to != (api.Place{}) || !same(f, api.Frame{}) {
 				t.Error(f, to, e)
 			}
-			if _, e := b.Sum(7, p); e != api.ErrBookPlace {
-				t.Error(e)
+			if n, e := b.Sum(7, p); n != 0 || e != api.ErrBookPlace {
+				t.Error(n, e)
 			}
-			if _, e := b.Behind(7, p); e != api.ErrBookPlace {
-				t.Error(e)
+			if n, e := b.Behind(7, p); n != 0 || e != api.ErrBookPlace {
+				t.Error(n, e)
 			}
 		}
 		// Asking for it, and being refused it, does not make it.

@@ -86,7 +86,7 @@ func TestBadLines(t *testing.T) {
 	for _, line := range []string{"", " ", "  ", "x", "Sync", "sync ", " sync", "sync 1", "sync  ", "syncs", "sync\t",
 		"pair", "pair 4 9000 8 2000 10", "pair 4 9000 8 2000 10 9000 1", "pair 4 9000 8 2000 10 -1", "pair 4 9000 8 2000 10 x",
 		"pair  4 9000 8 2000 10 9000", "pair 4 9000 8 2000 10 9000 ", "pair 04 9000 8 2000 10 9000", "pair 4 9000 8 2000 10 10000000000000000000",
-		"append", "append 5 20", "append 5 20 1 1", "append -5 20 1", "append 5 -0 1", "append 5 -01 1", "append 5 - 1", "append 5 --1 1",
+		"append", "append 5 20", "append 5 20 1 1", "append 5  1", "append  20 1", "append 5 20 ", "append -5 20 1", "append 5 -0 1", "append 5 -01 1", "append 5 - 1", "append 5 --1 1",
 		"append 5 +20 1", "append 5 20 -1", "append 5 020 1", "append 5 00 1", "append 5  20 1", "append 5 20 1 ", "append 5 2e1 1", "append 5 0x20 1",
 		"append 5 20 1\r", "append 5 20 12345678901234567890", "append 5 -12345678901234567890 1", "append 5 2_0 1", "append 5 ٣ 1", "append 5 20",
 		"tick", "tick x", "tick 1 1", "tick -1", "tick ", "deliver", "deliver 0 0", "deliver -1", "deliver x", "deliver ",

@@ -236,6 +236,30 @@ func TestWhoGetsWhat(t *testing.T) {
 	}
 }
 
+// TestSenderGoesOn: what an answer makes room for is sent to the receiver.
+func TestSenderGoesOn(t *testing.T) {
+	c := config()
+	c.Window = 1
+	p := start(t, c)
+	var l []api.Sample
+	for i := range int64(12) {
+		l = append(l, api.Sample{T: i, V: 1})
+		is(t, "Append", p.Append(5, l[i]), api.OK)
+	}
+	is(t, "Sync", p.Sync(), api.OK)
+	for i := range 3 {
+		if g := p.Net().Grams(); len(g) != 1 || g[0].To != 1 {
+			t.Fatal(g)
+		}
+		is(t, "Deliver", p.Deliver(0), api.OK)
+		has(t, "Query", p.Query(1, 5), l[:4*i+4]...)
+		is(t, "Deliver of the answer", p.Deliver(0), api.OK)
+	}
+	if g := p.Net().Grams(); len(g) != 0 || p.Ship().Backlog() != 0 {
+		t.Error(g, p.Ship().Backlog())
+	}
+}
+
 // TestFullNetwork: what the network does not take is lost, and not counted.
 func TestFullNetwork(t *testing.T) {
 	p := start(t, config())
@@ -309,7 +333,7 @@ func TestCrashRefused(t *testing.T) {
 
 func TestCompact(t *testing.T) {
 	p := start(t, config())
-	x := api.Sample{T: 1, V: 1}
+	x, y := api.Sample{T: 1, V: 1}, api.Sample{T: 2, V: 1}
 	p.Append(5, x)
 	is(t, "Compact", p.Compact(0), api.OK)
 	if g := p.Net().Grams(); len(g) != 1 || g[0].To != 1 {
@@ -317,10 +341,17 @@ func TestCompact(t *testing.T) {
 	}
 	has(t, "Sure", p.Sure(5), x)
 	is(t, "Deliver", p.Deliver(0), api.OK)
+	p.Append(5, y)
+	p.Sync()
+	is(t, "Deliver", p.Deliver(1), api.OK)
+	sender, receiver := p.Disk(0).Used(), p.Disk(1).Used()
 	is(t, "Compact", p.Compact(1), api.OK)
+	if p.Disk(0).Used() != sender || p.Disk(1).Used() >= receiver {
+		t.Error("the journal of the receiver isn't shorter:", p.Disk(1).Used(), receiver)
+	}
 	for side := range uint8(2) {
 		is(t, "Crash", p.Crash(side, api.Loss{}), api.OK)
-		has(t, "Query", p.Query(side, 5), x)
+		has(t, "Query", p.Query(side, 5), x, y)
 	}
 	c := config()
 	c.Disk = 40

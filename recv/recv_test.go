@@ -230,6 +230,8 @@ func TestDelta(t *testing.T) {
 		{"at the end, without bits", 5, with(next, func(f *api.Frame) { f.Bits = api.Bits{} }), 0, api.ErrRecvForm},
 		{"at the end, with a wrong count", 5, with(next, func(f *api.Frame) { f.Count++ }), 0, api.ErrRecvForm},
 		{"at the end, without samples", 5, with(next, func(f *api.Frame) { f.Count = 1 }), 0, api.ErrRecvForm},
+		{"at the end, with a count before it", 5, with(next, func(f *api.Frame) { f.Count = 0 }), 0, api.ErrRecvForm},
+		{"at the end, with a count before it, and another sum", 5, with(next, func(f *api.Frame) { f.Count = 0; f.Sum++ }), api.FrameNack, api.OK},
 		{"at the end, with other bits", 5, with(next, func(f *api.Frame) { f.Bits, _ = bit.Put(f.Bits, 7, 3) }), 0, api.ErrRecvForm},
 		{"another bit count at the end", 5, with(next, func(f *api.Frame) { f.From.Bits++ }), api.FrameNack, api.OK},
 		{"another bit count, and no more samples", 5, with(next, func(f *api.Frame) { f.From.Bits++; f.Count = 1 }), api.FrameAck, api.OK},

@@ -10,6 +10,7 @@ import (
 
 	"drayman/api"
 	"drayman/book"
+	"drayman/chunk"
 	"drayman/send"
 )
 
@@ -183,6 +184,36 @@ func TestGreatPieces(t *testing.T) {
 	}
 	if great < 900 || len(l) < 4 {
 		t.Error(great, len(l))
+	}
+}
+
+// TestFullPieces: a piece may have just 1024 bits, and no more unless one sample does.
+func TestFullPieces(t *testing.T) {
+	c := config()
+	c.Chunk = 24
+	just, over := 0, 0
+	for seed := range int64(3000) {
+		r := rand.New(rand.NewSource(seed))
+		b := book.New(1, 24)
+		at, v := int64(0), uint64(0)
+		for range 24 {
+			at += 1 + r.Int63n(1<<r.Intn(40))
+			v ^= r.Uint64() >> r.Intn(64)
+			b.Put(3, api.Sample{T: at, V: v})
+		}
+		whole := b.Chunks(3)[0].Bits
+		ends, _ := chunk.Ends(whole)
+		if slices.Contains(ends, 1024) {
+			just++
+		}
+		if slices.Contains(ends, 1025) {
+			over++
+		}
+		want, _ := deltas(b, 1, 3, api.Place{}, 1000)
+		sentAre(t, fmt.Sprint("seed ", seed), send.New(c, 1).Pump(b), want)
+	}
+	if just == 0 || over == 0 {
+		t.Error("no chunk has an end at 1024, or at 1025:", just, over)
 	}
 }
 
@@ -508,6 +539,42 @@ func TestTimerOfWhatHasCome(t *testing.T) {
 	l := s.Tick(b, 1000)
 	if len(l) != 1 || l[0].Series != 6 {
 		t.Error(l)
+	}
+}
+
+// TestTimerIsStopped: a timer that is due while there is nothing to be sent starts as a new one later.
+func TestTimerIsStopped(t *testing.T) {
+	for _, c := range []struct {
+		name  string
+		still func(s *send.Send, b *book.Book)
+	}{
+		{"all has come", func(s *send.Send, b *book.Book) {
+			s.Take(b, answer(t, b, api.FrameAck, 1, 5, b.End(5)))
+			f := answer(t, b, api.FrameAck, 1, 5, b.End(5))
+			f.Sum++
+			if l, _, _ := s.Take(b, f); len(l) != 1 {
+				t.Error(l)
+			}
+		}},
+		{"no place", func(s *send.Send, b *book.Book) { s.Restore(5, api.Place{Chunk: 9}) }},
+	} {
+		s, b := send.New(config(), 1), filled(3, 5)
+		s.Pump(b)
+		c.still(s, b)
+		if l := s.Tick(b, 10); len(l) != 0 || s.Way() != 0 {
+			t.Errorf("%s: %v", c.name, l)
+		}
+		more(b, 5, 1)
+		s.Restore(5, api.Place{})
+		if l := s.Pump(b); len(l) != 1 {
+			t.Errorf("%s: %v", c.name, l)
+		}
+		if l := s.Tick(b, 9); len(l) != 0 {
+			t.Errorf("%s: too early: %v", c.name, l)
+		}
+		if l := s.Tick(b, 1); len(l) != 1 {
+			t.Errorf("%s: too late", c.name)
+		}
 	}
 }
 

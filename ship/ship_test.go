@@ -244,6 +244,7 @@ func TestReplay(t *testing.T) {
 		{[]any{sampleNote(5, l[0]), sampleNote(5, l[1]), ackNote(5, two), ackNote(5, one), ackNote(5, api.Place{})}, 1, l[:2], two},
 		{[]any{sampleNote(5, l[0]), sampleNote(5, l[1]), ackNote(5, one), ackNote(5, two)}, 1, l[:2], two},
 		{[]any{whole, ackNote(5, api.Place{Chunk: 1}), ackNote(5, one), sampleNote(5, l[4])}, 1, l[:5], api.Place{Chunk: 1}},
+		{[]any{whole, ackNote(5, one), ackNote(5, api.Place{Chunk: 1}), sampleNote(5, l[4])}, 1, l[:5], api.Place{Chunk: 1}},
 		{[]any{epochNote(4), sampleNote(5, l[0]), epochNote(5), sampleNote(5, l[1])}, 6, l[:2], api.Place{}},
 	} {
 		s := disk(t, c.notes...)

@@ -109,8 +109,8 @@ func TestRead(t *testing.T) {
 
 func TestOpenErrors(t *testing.T) {
 	for _, name := range []string{"", strings.Repeat("x", 16), strings.Repeat("x", 17)} {
-		s := fs.Open(100, []fs.File{{Name: "x", B: []byte{5}}})
-		if j, l, e := tape.Open(s, name); e != api.ErrArg || j != nil || len(l) != 0 || len(s.Files()) != 1 {
+		s := fs.Open(100, []fs.File{{Name: "x", B: []byte{5}}, {Name: "~"}})
+		if j, l, e := tape.Open(s, name); e != api.ErrArg || j != nil || len(l) != 0 || len(s.Files()) != 2 {
 			t.Errorf("%q: %v %v", name, e, s.Files())
 		}
 	}
@@ -256,6 +256,16 @@ func TestSwapErrors(t *testing.T) {
 	if len(s.Files()) != 7 {
 		t.Error(s.Files())
 	}
+}
+
+func TestSwapOfGreatNotes(t *testing.T) {
+	s := fs.New(2000)
+	j, _ := open(t, s, "j")
+	great := bytes.Repeat([]byte{5}, 600)
+	if e := j.Swap([][]byte{great, great}); e != api.OK {
+		t.Error(e)
+	}
+	holds(t, s, "j", wrapped(great, great))
 }
 
 func TestSwapAfterRemoval(t *testing.T) {
