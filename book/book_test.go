@@ -517,12 +517,10 @@ func TestMemory(t *testing.T) {
 
 func TestManySamples(t *testing.T) {
 	b := book.New(1, 1)
-	l := even(100000)
-	for _, s := range l {
-		put(t, b, 3, s)
-		if n, e := b.Behind(3, api.Place{}); n != int(b.End(3).Chunk)*128 || e != api.OK {
-			t.Fatal(n, e)
-		}
+	l := even(20000)
+	put(t, b, 3, l...)
+	if n, e := b.Behind(3, api.Place{}); n != len(l)*128 || e != api.OK {
+		t.Error(n, e)
 	}
 	if !slices.Equal(b.Samples(3), l) {
 		t.Error("samples are lost")

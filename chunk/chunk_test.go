@@ -324,7 +324,7 @@ func TestMemory(t *testing.T) {
 }
 
 func TestManySamples(t *testing.T) {
-	l := make([]api.Sample, 200000)
+	l := make([]api.Sample, 20000)
 	for i := range l {
 		l[i] = api.Sample{T: int64(i) * 10, V: uint64(i)}
 	}

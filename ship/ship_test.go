@@ -689,11 +689,11 @@ func play(t *testing.T, r *rand.Rand, s *fs.FS, x *ship.Ship) (map[uint32][]api.
 		synced := false
 		switch r.Intn(8) {
 		case 0:
-			_, e := x.Sync()
-			synced = e == api.OK
+			l, e := x.Sync()
+			d, synced = l, e == api.OK
 		case 1:
-			_, e := x.Compact()
-			synced = e == api.OK
+			l, e := x.Compact()
+			d, synced = l, e == api.OK
 		case 2:
 			d = x.Tick(uint32(r.Intn(30)))
 		case 3:
