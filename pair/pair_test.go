@@ -360,6 +360,25 @@ func TestCompact(t *testing.T) {
 	is(t, "Compact without room", p.Compact(0), api.ErrShipFull)
 }
 
+// TestHaltedSender: a sender whose file system is halted sends as ever, and the crash loses what it had.
+func TestHaltedSender(t *testing.T) {
+	for i, call := range []func(*pair.Pair) api.Errno{(*pair.Pair).Sync, compactSender} {
+		p := start(t, config())
+		x := api.Sample{T: 10, V: 1}
+		p.Append(5, x)
+		p.Disk(0).Halt(3 * i) // Compact answers OK once its file is made
+		is(t, "the call", call(p), api.OK)
+		has(t, "Sure", p.Sure(5), x)
+		if g := p.Net().Grams(); len(g) != 1 || g[0].To != 1 || !p.Disk(0).Halted() {
+			t.Error(g, p.Disk(0).Halted())
+		}
+		is(t, "Crash", p.Crash(0, api.Loss{}), api.OK)
+		has(t, "Sure", p.Sure(5))
+	}
+}
+
+func compactSender(p *pair.Pair) api.Errno { return p.Compact(0) }
+
 // world is a pair that random things are done with, and what is known of it.
 type world struct {
 	p        *pair.Pair
@@ -439,7 +458,7 @@ func (w *world) step() {
 	}
 }
 
-// haltedStep does one random thing with a file system that halts, whose side crashes then. What it says meanwhile gets lost.
+// haltedStep does one random thing with a file system that halts, whose side crashes then. What it says meanwhile gets lost: it goes on as if all were durable.
 func (w *world) haltedStep() {
 	side := uint8(w.r.Intn(2))
 	w.p.Disk(side).Halt(w.r.Intn(6))

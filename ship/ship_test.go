@@ -710,9 +710,12 @@ func play(t *testing.T, r *rand.Rand, s *fs.FS, x *ship.Ship) (map[uint32][]api.
 		}
 		for series := range had {
 			has(t, "All", x.All(), series, had[series]...)
+			if synced {
+				has(t, "Sure", x.Sure(), series, had[series]...)
+			}
+			// What a halted file system has synced is in Sure, and lost by the crash.
 			if synced && !s.Halted() {
 				sure[series] = len(had[series])
-				has(t, "Sure", x.Sure(), series, had[series]...)
 			}
 		}
 		onlySure(t, x, frames(t, d))
@@ -755,6 +758,92 @@ func TestCompactAtEveryStep(t *testing.T) {
 		behind, _ := x.All().Behind(5, api.Place{Chunk: 1})
 		if x.Epoch() != 2 || x.Backlog() != behind {
 			t.Errorf("halted at %d: %d %d", n, x.Epoch(), x.Backlog())
+		}
+		if !halted {
+			break
+		}
+	}
+}
+
+// TestSyncOnAHaltedFileSystem: a halted file system answers OK, so Sync does all that it does on another one.
+func TestSyncOnAHaltedFileSystem(t *testing.T) {
+	l := even(7)
+	for n := range 6 {
+		s, other := fs.New(9000), fs.New(9000)
+		x, y := open(t, s, config()), open(t, other, config())
+		for _, z := range []*ship.Ship{x, y} {
+			add(t, z, 5, l[:2]...)
+			z.Sync()
+		}
+		s.Halt(n)
+		for from := 2; from < 6; from += 2 {
+			for _, z := range []*ship.Ship{x, y} {
+				add(t, z, 5, l[from:from+2]...)
+			}
+			sameSync(t, fmt.Sprintf("halted at %d, from %d on", n, from), x, y, (*ship.Ship).Sync)
+			has(t, "Sure", x.Sure(), 5, l[:from+2]...)
+		}
+		// Nothing is pending any more.
+		if d, e := x.Sync(); e != api.OK || len(d) != 0 || !s.Halted() {
+			t.Error(d, e, s.Halted())
+		}
+		// The receiver may have got it: what it answers is taken.
+		if _, e := x.Take(answer(t, x, api.FrameAck, 5, x.Sure().End(5))); e != api.OK || x.Backlog() != 0 || x.Way() != 0 {
+			t.Error(e, x.Backlog(), x.Way())
+		}
+		add(t, x, 5, l[6])
+		// Four samples, with a sync behind two and behind four, are what is there at the most.
+		s.Crash(api.Loss{})
+		want := 2
+		if n >= 3 {
+			want = 4
+		}
+		has(t, fmt.Sprint("All, halted at ", n), open(t, s, config()).All(), 5, l[:want]...)
+	}
+}
+
+// sameSync checks that a call of x returns what it returns of y, and leaves the same behind.
+func sameSync(t *testing.T, what string, x, y *ship.Ship, call func(*ship.Ship) ([][]byte, api.Errno)) {
+	t.Helper()
+	d, e := call(x)
+	want, _ := call(y)
+	if e != api.OK || len(want) == 0 || fmt.Sprint(d) != fmt.Sprint(want) {
+		t.Errorf("%s: %v %v, want %v", what, frames(t, d), e, frames(t, want))
+	}
+	if fmt.Sprint(ship.Snapshot(x.Sure())) != fmt.Sprint(ship.Snapshot(y.Sure())) || x.Way() != y.Way() || x.Backlog() != y.Backlog() {
+		t.Errorf("%s: Sure has %v, want %v", what, ship.Snapshot(x.Sure()), ship.Snapshot(y.Sure()))
+	}
+}
+
+// TestCompactOnAHaltedFileSystem: wherever a Swap that answers OK was halted, its samples are in Sure, and sent.
+func TestCompactOnAHaltedFileSystem(t *testing.T) {
+	for n := 0; ; n++ {
+		s := fs.New(9000)
+		x, y := open(t, s, config()), open(t, fs.New(9000), config())
+		l := even(6)
+		for _, z := range []*ship.Ship{x, y} {
+			add(t, z, 5, l[:2]...)
+			z.Sync()
+			add(t, z, 5, l[2:]...)
+			add(t, z, 3, l[0])
+		}
+		s.Halt(n)
+		if n == 0 {
+			// The first note misses the file that wasn't made.
+			if d, e := x.Compact(); e != api.ErrFsNone || len(d) != 0 {
+				t.Error(d, e)
+			}
+			has(t, "Sure", x.Sure(), 5, l[:2]...)
+			// It is pending still.
+			sameSync(t, "Sync behind it", x, y, (*ship.Ship).Sync)
+			continue
+		}
+		sameSync(t, fmt.Sprint("halted at ", n), x, y, (*ship.Ship).Compact)
+		halted := s.Halted()
+		has(t, "Sure", x.Sure(), 5, l...)
+		has(t, "Sure", x.Sure(), 3, l[0])
+		if d, e := x.Sync(); e != api.OK || len(d) != 0 {
+			t.Error(d, e)
 		}
 		if !halted {
 			break
