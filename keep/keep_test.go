@@ -356,7 +356,7 @@ func TestCompactErrors(t *testing.T) {
 	has(t, k, even(2)...)
 }
 
-// TestCrashes: wherever the file system halts, and whatever the crash keeps, there is all that was acknowledged, and a prefix of what was sent.
+// TestCrashes: wherever the file system halts, and whatever the crash keeps, there is all that was acknowledged before the halt, and a prefix of what was sent.
 func TestCrashes(t *testing.T) {
 	for seed := range int64(1000) {
 		r := rand.New(rand.NewSource(seed))
@@ -379,7 +379,7 @@ func TestCrashes(t *testing.T) {
 					}
 					f.Kind, f.Epoch = api.FrameDelta, 1
 					d, e := k.Take(code(t, f))
-					if e == api.OK && len(d) != 1 && !s.Halted() {
+					if e == api.OK && len(d) != 1 {
 						t.Fatal(seed, "no answer")
 					}
 				}
@@ -405,6 +405,58 @@ func TestCrashes(t *testing.T) {
 			}
 		}
 	}
+}
+
+// TestTakeOnAHaltedFileSystem: a halted file system answers OK, so Take does all that it does on another one.
+func TestTakeOnAHaltedFileSystem(t *testing.T) {
+	l := deltas(6, 2)
+	for n := range 7 {
+		s := fs.New(9000)
+		k := open(t, s)
+		s.Halt(n)
+		for i, f := range l {
+			d, e := k.Take(code(t, f))
+			answers(t, fmt.Sprintf("frame %d, halted at %d", i, n), k, d, e, api.FrameAck, 5)
+			has(t, k, even(2*i+2)...)
+		}
+		if s.Halted() != (n < 6) {
+			t.Error(n, s.Halted())
+		}
+		d, e := k.Take(code(t, l[0]))
+		answers(t, "the first one again", k, d, e, api.FrameAck, 5)
+		full := filled(6).Chunks(5)[1]
+		full.Kind, full.Epoch, full.From, full.Sum = api.FrameFull, 2, api.Place{Chunk: 1}, 0
+		d, e = k.Take(code(t, full))
+		answers(t, "the last chunk anew", k, d, e, api.FrameAck, 5)
+		// Each frame takes an Append and a Sync; what these did not do is gone behind the crash.
+		s.Crash(api.Loss{})
+		has(t, open(t, s), even(n/2*2)...)
+	}
+}
+
+// TestErrorsOnAHaltedFileSystem: what is refused on another one is refused there, too.
+func TestErrorsOnAHaltedFileSystem(t *testing.T) {
+	l := deltas(4, 2)
+	s := fs.New(stuffed(noteOf(l[0])) + 1)
+	k := open(t, s)
+	k.Take(code(t, l[0]))
+	s.Halt(0)
+	wrong := l[1]
+	wrong.Count++
+	for i, c := range []struct {
+		b    []byte
+		want api.Errno
+	}{{nil, api.ErrFrameForm}, {code(t, wrong), api.ErrRecvForm}, {code(t, l[1]), api.ErrFsFull}} {
+		if d, e := k.Take(c.b); e != c.want || len(d) != 0 {
+			t.Errorf("case %d: %v %v", i, d, e)
+		}
+		has(t, k, even(2)...)
+	}
+}
+
+func stuffed(n api.Note) int {
+	b, _ := note.Encode(n)
+	return len(stuff.Wrap(b))
 }
 
 // TestCompactAtEveryStep: wherever the writing of a new journal halts, nothing is lost.

@@ -379,6 +379,27 @@ func TestHaltedSender(t *testing.T) {
 
 func compactSender(p *pair.Pair) api.Errno { return p.Compact(0) }
 
+// TestHaltedReceiver: a receiver whose file system is halted takes and acknowledges as ever, and the crash loses what it had.
+func TestHaltedReceiver(t *testing.T) {
+	p := start(t, config())
+	x := api.Sample{T: 10, V: 1}
+	p.Append(5, x)
+	p.Sync()
+	p.Disk(1).Halt(0)
+	is(t, "Deliver", p.Deliver(0), api.OK)
+	has(t, "Query", p.Query(1, 5), x)
+	if g := p.Net().Grams(); len(g) != 1 || g[0].To != 0 || !p.Disk(1).Halted() {
+		t.Error(g, p.Disk(1).Halted())
+	}
+	is(t, "Crash", p.Crash(1, api.Loss{}), api.OK)
+	has(t, "Query", p.Query(1, 5))
+	// An answer that got lost with the crash does no harm: the frame comes again.
+	p.Drop(0)
+	p.Tick(10)
+	is(t, "Deliver", p.Deliver(0), api.OK)
+	has(t, "Query", p.Query(1, 5), x)
+}
+
 // world is a pair that random things are done with, and what is known of it.
 type world struct {
 	p        *pair.Pair
